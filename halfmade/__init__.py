@@ -1,0 +1,1 @@
+"""Halfmade: modules that take one another, and what stands while they are made."""
