@@ -1,6 +1,7 @@
 """The rules of the language subset that can be seen by a plain look at the files."""
 
 import ast
+import builtins
 import pathlib
 import re
 import unittest
@@ -29,6 +30,24 @@ def bound_names(tree):
             yield node.arg
         elif isinstance(node, ast.Attribute):
             yield node.attr
+
+
+def methods_of(tree):
+    for node in ast.walk(tree):
+        if isinstance(node, ast.ClassDef):
+            yield from (part.name for part in node.body if isinstance(part, FUNCTIONS))
+
+
+def attributes_of(tree):
+    """Each name that is assigned as an attribute."""
+    for node in ast.walk(tree):
+        if isinstance(node, ast.Attribute) and isinstance(node.ctx, ast.Store):
+            yield node.attr
+
+
+def imports_of(tree):
+    """The names of the package's files from which a file imports."""
+    return [node.module.split(".")[1] + ".py" for node in ast.walk(tree) if isinstance(node, ast.ImportFrom)]
 
 
 def parsed():
@@ -68,6 +87,40 @@ class TestLanguage(unittest.TestCase):
                     self.assertIn(node, tree.body, file)
                     self.assertEqual(node.level, 0, file)
                     self.assertRegex(node.module, r"\Ahalfmade\.[a-z_]+\Z", file)
+
+    def test_imports_go_one_way(self):
+        left = {file: imports_of(tree) for file, text, tree in parsed()}
+        while left:
+            free = [file for file in left if not set(left[file]) & set(left)]
+            self.assertTrue(free, left)
+            for file in free:
+                del left[file]
+
+    def test_no_name_is_a_method_here_and_an_attribute_there(self):
+        trees = [tree for file, text, tree in parsed()]
+        methods = {name for tree in trees for name in methods_of(tree)}
+        attributes = {name for tree in trees for name in attributes_of(tree)}
+        self.assertEqual(methods & attributes, set())
+
+    def test_is_stands_beside_none_true_and_false_only(self):
+        for file, text, tree in parsed():
+            for node in ast.walk(tree):
+                if isinstance(node, ast.Compare) and any(isinstance(sign, (ast.Is, ast.IsNot)) for sign in node.ops):
+                    for part in node.comparators:
+                        self.assertIsInstance(part, ast.Constant, (file, node.lineno))
+                        self.assertIn(part.value, (None, True, False), (file, node.lineno))
+
+    def test_no_name_of_a_function_hides_an_import(self):
+        for file, text, tree in parsed():
+            taken = {name.asname or name.name for node in tree.body if isinstance(node, ast.ImportFrom)
+                     for name in node.names}
+            taken |= {node.name for node in tree.body if isinstance(node, ast.ClassDef)} | set(dir(builtins))
+            for function in ast.walk(tree):
+                if isinstance(function, FUNCTIONS):
+                    own = {node.arg for node in ast.walk(function) if isinstance(node, ast.arg)}
+                    own |= {node.id for node in ast.walk(function)
+                            if isinstance(node, ast.Name) and isinstance(node.ctx, ast.Store)}
+                    self.assertEqual(own & taken, set(), (file, function.name))
 
     def test_words_that_do_not_occur(self):
         for file, text, tree in parsed():

@@ -2,11 +2,9 @@ import copy
 import unittest
 
 from halfmade.rows import bound_by, counted, is_body, is_row
-from tests.things_at_hand import FOREIGN_SIGNS, Sour, no_texts, no_tuples
+from tests.things_at_hand import FOREIGN_SIGNS, LINE, SIXTY, Sour, no_texts, no_tuples, tries
 
-SIXTY = 10 ** 60 - 1
 WORDS = ["NOMODULE", "NONAME", "HALF", "FLAT", "NOTASK", "ALL"]
-LINE = ("set", "x", 1)
 
 # One right row for each word but try, with what each part is.
 SIMPLE = {
@@ -31,13 +29,6 @@ def wrong_parts(kind):
     if kind == "name":
         return wrong + ["x.y"]
     return wrong + ["a.b.c.d.e"]
-
-
-def tries(many, first=True, rows=(LINE,)):
-    """The rows with so many tries around them, each in the first or the last rows of the next."""
-    for level in range(many):
-        rows = (("try", rows, (), ()) if first else ("try", (), (), rows),)
-    return rows
 
 
 def lists_for_tuples(thing):

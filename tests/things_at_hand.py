@@ -1,5 +1,9 @@
 """Things that several tests hand in."""
 
+LINE = ("set", "x", 1)
+# The greatest number of sixty figures.
+SIXTY = 10 ** 60 - 1
+
 
 class Sour:
     """A thing that can be neither compared, hashed nor measured."""
@@ -41,3 +45,10 @@ def with_sign_at_each_place(text, sign):
     put_in = [text[:at] + sign + text[at:] for at in range(len(text) + 1)]
     in_place = [text[:at] + sign + text[at + 1:] for at in range(len(text))]
     return put_in + in_place
+
+
+def tries(many, first=True, rows=(LINE,)):
+    """The rows with so many tries around them, each in the first or the last rows of the next."""
+    for level in range(many):
+        rows = (("try", rows, (), ()) if first else ("try", (), (), rows),)
+    return rows
