@@ -1,7 +1,8 @@
 """Names looked for in modules, roads followed, functions asked."""
 
 from halfmade.errors import Fault
-from halfmade.things import Module
+from halfmade.paths import last_name
+from halfmade.things import Late, Module
 
 
 def places(chain):
@@ -36,14 +37,28 @@ def look_for_module(module, name, chain):
     return thing
 
 
+def last_module(module, road, chain):
+    """The module in which the last name of a road is to be looked for; else Fault."""
+    for name in road.split(".")[:-1]:
+        module = look_for_module(module, name, chain)
+    return module
+
+
 def follow(module, road, chain):
     """The thing to which a road leads from a module; else Fault."""
-    names = road.split(".")
-    for name in names[:-1]:
-        module = look_for_module(module, name, chain)
-    return look(module, names[-1], chain)
+    return look(last_module(module, road, chain), last_name(road), chain)
 
 
 def asked(late, chain):
     """What a function tells when it is asked, its home being as it is now; else Fault."""
     return follow(late.home, late.road, chain)
+
+
+def follow_and_ask(module, road, chain):
+    """What the function tells to which a road leads from a module; else Fault."""
+    holder = last_module(module, road, chain)
+    name = last_name(road)
+    thing = look(holder, name, chain)
+    if not isinstance(thing, Late):
+        raise Fault(("NOTASK", holder.path, name))
+    return asked(thing, chain)

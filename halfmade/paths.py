@@ -32,3 +32,8 @@ def parent(path):
     """The path without its last name; None for a path of one name."""
     ahead = beginnings(path)[:-1]
     return ahead[-1] if ahead else None
+
+
+def last_name(path):
+    """The last of the names of a path, or of a road."""
+    return path.split(".")[-1]

@@ -92,7 +92,11 @@ class Runs:
         return None
 
     def taken(self, path):
-        """The module that is taken at a path; else Fault, or Failed where its body fails."""
+        """The module that a row, or a call from outside, takes; else Fault or Failed."""
+        return self.taken_alone(path)
+
+    def taken_alone(self, path):
+        """The module that is taken at this one path; else Fault, or Failed where its body fails."""
         if path in self.standing:
             module = self.standing[path]
             self.entries.append(("have", module.number))
@@ -111,14 +115,11 @@ class Runs:
         module = Module(len(self.modules) + 1, path)
         self.modules[module.number] = module
         self.standing[path] = module
-        self.entries.append(("begin", module.number, path))
-        self.write_down(module)
         try:
-            self.run(module, body)
+            self.run("begin", module, body)
         except Failed as e:
             self.fall(module, e.fault)
             raise
-        self.entries.append(("end", module.number))
         return module
 
     def fall(self, module, fault):
@@ -126,7 +127,6 @@ class Runs:
         del self.standing[module.path]
         self.failed[module.number] = True
         self.fallen[module.path] = (module.number, fault)
-        self.entries.append(("fail", module.number, fault))
 
     def write_down(self, module):
         """Writes into the paper who took a module whose body is about to run."""
@@ -136,16 +136,25 @@ class Runs:
         by, row = self.chain[-1]
         self.begun.append((module.number, by.number, row))
 
-    def run(self, module, body):
-        """Does the rows of a body, its module being the last one of the chain meanwhile."""
+    def run(self, word, module, body):
+        """Does the rows of a body, its module being the last one of the chain meanwhile.
+
+        word is what the log has for the start: a body begins, or a class below reads it anew.
+        """
+        self.entries.append((word, module.number, module.path))
+        self.write_down(module)
         ahead = self.chain
         self.chain = ahead + [(module, 0)]
         try:
             for at, row in enumerate(body):
                 self.chain[-1] = (module, at)
                 self.do_row(row)
+        except Failed as e:
+            self.entries.append(("fail", module.number, e.fault))
+            raise
         finally:
             self.chain = ahead
+        self.entries.append(("end", module.number))
 
     def do_row(self, row):
         """Does a row of the running body; a fault that arises in it is Failed from here on.

@@ -22,12 +22,12 @@ class RunsCase(unittest.TestCase):
         """The log's begins and ends lie within one another just as the paper tells."""
         under_way, begun = [], []
         for entry in runs.log():
-            if entry[0] == "begin":
+            if entry[0] in ("begin", "anew"):
                 begun.append((entry[1], under_way[-1] if under_way else None))
                 under_way.append(entry[1])
             elif entry[0] in ("end", "fail"):
                 self.assertEqual(under_way.pop(), entry[1])
-            elif entry[0] == "note":
+            elif entry[0] in ("note", "caught"):
                 self.assertEqual(under_way[-1], entry[1])
         self.assertEqual(under_way, [])
         self.assertEqual(begun, [(number, by) for number, by, row in runs.paper()])

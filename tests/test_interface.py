@@ -17,7 +17,12 @@ CLASSES = {
     ("things", "Late"): {"__init__": ["home", "road"]},
     ("runs", "Runs"): {"__init__": ["finders"], "take": ["path"], "table": [], "log": [], "paper": [],
                        "path_of": ["number"], "names_of": ["number"], "state_of": ["number"]},
+    ("draws", "Draws"): {"thing": ["path", "road"], "ask": ["path", "road"]},
+    ("tries", "Tries"): {},
+    ("within", "Within"): {},
 }
+# Each class of a house with the one straight above it.
+BASES = [("runs", "Runs"), ("draws", "Draws"), ("tries", "Tries"), ("within", "Within")]
 
 
 def file_of(name):
@@ -38,6 +43,11 @@ class TestInterface(unittest.TestCase):
             for method, arguments in methods.items():
                 self.assertIn(method, vars(kind), name)
                 self.assertEqual(list(inspect.signature(vars(kind)[method]).parameters), ["self"] + arguments, method)
+
+    def test_each_class_of_a_house_is_straight_under_the_one_ahead(self):
+        kinds = [getattr(file_of(file), name) for file, name in BASES]
+        for above, below in zip([object] + kinds, kinds):
+            self.assertEqual(below.__bases__, (above,))
 
 
 if __name__ == "__main__":
