@@ -10,6 +10,10 @@ FUNCTIONS = {
     "bodytexts": {"body_text": ["body"], "read_body": ["text"]},
     "things": {"told": ["thing"]},
     "looking": {"look": ["module", "name", "chain"], "follow": ["module", "road", "chain"], "asked": ["late", "chain"]},
+    "plain": {"is_plain": ["thing"], "reach": ["stock", "name"], "knots": ["stock"]},
+    "safe": {"is_lot": ["stock", "name", "row", "thing"], "is_snare": ["stock", "thing"], "safe": ["stock"]},
+    "orders": {"foretold": ["stock", "name"], "order": ["stock"], "is_single": ["stock"], "heads_first": ["stock"],
+               "by_paths": ["house"]},
 }
 CLASSES = {
     ("things", "Module"): {"__init__": ["number", "path"], "bind": ["name", "thing"], "has": ["name"],
@@ -20,9 +24,10 @@ CLASSES = {
     ("draws", "Draws"): {"thing": ["path", "road"], "ask": ["path", "road"]},
     ("tries", "Tries"): {},
     ("within", "Within"): {},
+    ("house", "House"): {"put": ["k", "path", "body"], "let_go": ["path"], "anew": ["path"]},
 }
 # Each class of a house with the one straight above it.
-BASES = [("runs", "Runs"), ("draws", "Draws"), ("tries", "Tries"), ("within", "Within")]
+BASES = [("runs", "Runs"), ("draws", "Draws"), ("tries", "Tries"), ("within", "Within"), ("house", "House")]
 
 
 def file_of(name):
