@@ -7,7 +7,7 @@ import unittest
 from halfmade.errors import Failed, NoStock
 from halfmade.house import House
 from halfmade.orders import by_paths, foretold, heads_first, is_single, order
-from halfmade.plain import is_plain
+from halfmade.plain import is_plain, knots
 from halfmade.safe import safe
 from tests.houses_at_hand import Dice, outcome
 from tests.machine import Machine
@@ -299,6 +299,14 @@ class TestByPaths(unittest.TestCase):
 
 
 class TestTold(unittest.TestCase):
+    def test_the_order_in_which_a_stock_was_written_has_no_part(self):
+        for stock in thrown_stocks(200, "abcd", 3):
+            turned = {name: stock[name] for name in reversed(list(stock))}
+            for action in (order, safe, knots, is_single, heads_first):
+                self.assertEqual(action(stock), action(turned))
+            for name in stock:
+                self.assertEqual(foretold(stock, name), foretold(turned, name))
+
     def test_no_stock(self):
         for thing in no_plain_stocks():
             for action in (order, is_single, heads_first):
